@@ -1,0 +1,1 @@
+"""Light on a table of mirrors, told exactly."""
