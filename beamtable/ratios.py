@@ -2,6 +2,9 @@
 
 from beamtable.errors import NoFraction
 
+ZERO = (0, 1)
+ONE = (1, 1)
+
 
 def greatest_divisor(one, other):
     larger = abs(one)

@@ -4,6 +4,7 @@ EAST = 0
 NORTH = 1
 WEST = 2
 SOUTH = 3
+WAYS = (0, 1, 2, 3)
 
 
 def opposite(way):

@@ -1,7 +1,7 @@
 """Looks for code of the package that lies outside the written rules of the language (L1 to L28).
 
-It sees what can be seen line by line and node by node; rules that ask for more (such as what a loop
-changes, or who keeps a list) are left to the reader.
+It sees what can be seen line by line, node by node, and by what draws from what; rules that ask for more
+(such as what a loop changes) are left to the reader.
 """
 
 import ast
@@ -42,14 +42,8 @@ NODES = tuple(
 
 def own_attributes(trees):
     """The methods and values that the package's own classes have."""
-    found = set()
-    for tree in trees:
-        for node in ast.walk(tree):
-            if isinstance(node, ast.ClassDef):
-                found.update(part.name for part in node.body if isinstance(part, ast.FunctionDef))
-            if isinstance(node, ast.Attribute) and isinstance(node.ctx, ast.Store):
-                found.add(node.attr)
-    return found
+    values = {node.attr for tree in trees for node in ast.walk(tree) if is_value_given(node)}
+    return methods_of(trees) | values
 
 
 def faults(source, own=None):
@@ -57,7 +51,7 @@ def faults(source, own=None):
     tree = ast.parse(source)
     if own is None:
         own = own_attributes([tree])
-    found = line_faults(source) + escape_faults(source) + top_faults(tree)
+    found = line_faults(source) + escape_faults(source) + top_faults(tree) + use_faults(tree)
     for node in ast.walk(tree):
         line = getattr(node, "lineno", 0)
         if not isinstance(node, NODES):
@@ -68,6 +62,151 @@ def faults(source, own=None):
         if isinstance(node, ast.Attribute) and node.attr not in own | METHODS | DUNDER_METHODS:
             found.append((line, "L25"))
     return sorted(set(found))
+
+
+def parents_of(tree):
+    """A dict of node: the node that holds it."""
+    return {part: node for node in ast.walk(tree) for part in ast.iter_child_nodes(node)}
+
+
+def use_faults(tree):
+    """What is only to be seen by where a value stands: walks, sets, classes, the lists and dicts of the file's top."""
+    parents = parents_of(tree)
+    classes = class_names(tree)
+    kept = kept_names(tree)
+    found = []
+    for node in ast.walk(tree):
+        if is_walk(node) and not is_walked_at_once(node, parents):
+            found.append((node.lineno, "L23"))
+        if is_set(node) and not is_set_in_place(node, parents):
+            found.append((node.lineno, "L24"))
+        if isinstance(node, ast.Name) and isinstance(node.ctx, ast.Load):
+            if node.id in classes and not is_class_in_place(node, parents):
+                found.append((node.lineno, "L18"))
+            if node.id in kept and not is_only_read(node, parents):
+                found.append((node.lineno, "L15"))
+    return found
+
+
+def class_names(tree):
+    names = set("ValueError KeyError IndexError LookupError ZeroDivisionError StopIteration".split())
+    for node in tree.body:
+        if isinstance(node, ast.ClassDef):
+            names.add(node.name)
+        # What is drawn from elsewhere is known by its letters: Cell is a class, ONE and plus are none.
+        if isinstance(node, ast.ImportFrom):
+            names.update(name for name in names_of(node) if name[0].isupper() and not name.isupper())
+    return names
+
+
+def kept_names(tree):
+    named = [node for node in tree.body if isinstance(node, ast.Assign) and isinstance(node.targets[0], ast.Name)]
+    return {node.targets[0].id for node in named if isinstance(node.value, (ast.List, ast.Dict))}
+
+
+def called_name(node):
+    return node.func.id if isinstance(node, ast.Call) and isinstance(node.func, ast.Name) else None
+
+
+def is_walk(node):
+    if called_name(node) in ("zip", "enumerate", "reversed", "range"):
+        return True
+    method = isinstance(node, ast.Call) and isinstance(node.func, ast.Attribute)
+    return method and node.func.attr in ("items", "keys", "values")
+
+
+def is_walked_at_once(node, parents):
+    parent = parents[node]
+    if isinstance(parent, (ast.For, ast.comprehension)):
+        return parent.iter is node
+    if called_name(parent) in ("min", "max"):
+        return parent.args == [node]
+    if called_name(parent) in ("enumerate", "zip"):
+        return node in parent.args
+    if called_name(parent) in "list tuple dict sorted sum any all".split():
+        return parent.args[:1] == [node]
+    joined = isinstance(parent, ast.Call) and isinstance(parent.func, ast.Attribute) and parent.func.attr == "join"
+    return joined and isinstance(parent.func.value, ast.Constant)
+
+
+def is_set(node):
+    return isinstance(node, ast.Set) or called_name(node) in ("set", "frozenset")
+
+
+def is_set_in_place(node, parents):
+    parent = parents[node]
+    while isinstance(parent, ast.BinOp):
+        parent = parents[parent]
+    return isinstance(parent, ast.Compare) or called_name(parent) in ("sorted", "len") and not parent.keywords
+
+
+def is_class_in_place(node, parents):
+    parent = parents[node]
+    while isinstance(parent, ast.Tuple):
+        parent = parents[parent]
+    if isinstance(parent, ast.Attribute):
+        return parent.attr == "__init__"
+    if isinstance(parent, ast.Call):
+        return parent.func is node or called_name(parent) == "isinstance"
+    return isinstance(parent, (ast.ClassDef, ast.ExceptHandler, ast.Raise))
+
+
+def is_only_read(node, parents):
+    parent = parents[node]
+    if isinstance(parent, ast.Subscript):
+        return parent.value is node and isinstance(parent.ctx, ast.Load)
+    if isinstance(parent, ast.Attribute):
+        return parent.attr in "get items keys values index count".split()
+    if isinstance(parent, ast.Call):
+        return called_name(parent) in "len list tuple dict sorted enumerate zip reversed sum min max any all".split()
+    return isinstance(parent, (ast.For, ast.comprehension, ast.Compare))
+
+
+def package_faults(sources):
+    """A list of (file name, rule) for what is only to be seen of all files (a dict of name: source) together."""
+    trees = {name: ast.parse(source) for name, source in sources.items()}
+    found = [(name, "L16") for name in trees if name in drawn_from(name, trees)]
+    for name, tree in trees.items():
+        for node in tree.body:
+            if isinstance(node, ast.ImportFrom) and not set(names_of(node)) <= defined_in(file_of(node), trees):
+                found.append((name, "L16"))
+    methods = methods_of(trees.values())
+    values = {node.attr for tree in trees.values() for node in ast.walk(tree) if is_value_given(node)}
+    return sorted(set(found)) + [(name, "L18") for name in sorted(methods & values)]
+
+
+def file_of(node):
+    return (node.module or "").rpartition(".")[2] + ".py"
+
+
+def drawn_from(name, trees):
+    reached = set()
+    ahead = [name]
+    while ahead:
+        for node in trees[ahead.pop()].body:
+            if isinstance(node, ast.ImportFrom) and file_of(node) in trees and file_of(node) not in reached:
+                reached.add(file_of(node))
+                ahead.append(file_of(node))
+    return reached
+
+
+def defined_in(name, trees):
+    found = set()
+    for node in trees[name].body if name in trees else []:
+        if isinstance(node, (ast.FunctionDef, ast.ClassDef)):
+            found.add(node.name)
+        if isinstance(node, ast.Assign) and isinstance(node.targets[0], ast.Name):
+            found.add(node.targets[0].id)
+    return found
+
+
+def methods_of(trees):
+    classes = [node for tree in trees for node in tree.body if isinstance(node, ast.ClassDef)]
+    return {part.name for node in classes for part in node.body if isinstance(part, ast.FunctionDef)}
+
+
+def is_value_given(node):
+    return isinstance(node, ast.Attribute) and isinstance(node.ctx, ast.Store)
 
 
 def line_faults(source):

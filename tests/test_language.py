@@ -3,7 +3,7 @@ import re
 import unittest
 from pathlib import Path
 
-from tests.language_rules import PACKAGE, faults, own_attributes
+from tests.language_rules import PACKAGE, faults, own_attributes, package_faults
 
 FOLDER = Path(__file__).resolve().parent.parent / PACKAGE
 
@@ -42,17 +42,59 @@ BROKEN = [
     ("def f(a):\n    return 2 ** a\n", "L27"),
     ("A = 'a % b'\n", "L27"),
     ("A = '\\x41'\n", "L27"),
+    ("A = {1: 2}\n\n\ndef f(a):\n    A[a] = 3\n", "L15"),
+    ("A = [1, 2]\n\n\ndef f(a):\n    A.append(a)\n", "L15"),
+    ("A = [1, 2]\n\n\ndef f(a):\n    return A\n", "L15"),
+    ("A = [1, 2]\n\n\ndef f(a):\n    return f(A)\n", "L15"),
+    ("class A:\n    pass\n\n\ndef f(a):\n    return [A]\n", "L18"),
+    ("from beamtable.errors import NoCell\n\n\ndef f(a):\n    return f(NoCell)\n", "L18"),
+    ("def f(a):\n    return range(a)\n", "L23"),
+    ("def f(a):\n    b = a.items()\n    return b\n", "L23"),
+    ("def f(a):\n    return set(a)\n", "L24"),
+    ("def f(a):\n    for b in set(a):\n        a.append(b)\n", "L24"),
 ]
+
+# Files that are faulty only beside one another.
+BROKEN_TOGETHER = [
+    (
+        {
+            "a.py": "from beamtable.b import f\n",
+            "b.py": "from beamtable.c import f\n",
+            "c.py": "def f(a):\n    pass\n",
+        },
+        "a.py", "L16",
+    ),
+    ({"a.py": "from beamtable.b import B\nA = 1\n", "b.py": "from beamtable.a import A\nB = 1\n"}, "b.py", "L16"),
+    (
+        {
+            "a.py": "class A:\n    def row(self):\n        return 1\n",
+            "b.py": "class B:\n    def __init__(self):\n        self.row = 1\n",
+        },
+        "row", "L18",
+    ),
+]
+
+
+def package_sources():
+    return {path.name: path.read_text(encoding="utf-8") for path in sorted(FOLDER.glob("*.py"))}
 
 
 class Rules(unittest.TestCase):
     def test_the_package_keeps_to_them(self):
-        sources = {path.name: path.read_text(encoding="utf-8") for path in sorted(FOLDER.glob("*.py"))}
+        sources = package_sources()
         self.assertIn("__init__.py", sources)
         own = own_attributes([ast.parse(source) for source in sources.values()])
         for name, source in sources.items():
             with self.subTest(name):
                 self.assertEqual(faults(source, own), [])
+
+    def test_its_files_keep_to_them_together(self):
+        self.assertEqual(package_faults(package_sources()), [])
+
+    def test_broken_ones_are_seen_together(self):
+        for sources, name, rule in BROKEN_TOGETHER:
+            with self.subTest(sources):
+                self.assertIn((name, rule), package_faults(sources))
 
     def test_nothing_else_lies_in_the_package(self):
         for path in FOLDER.iterdir():

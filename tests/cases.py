@@ -1,0 +1,33 @@
+"""What several test files ask in the same way."""
+
+import unittest
+from math import gcd
+
+from beamtable.cells import Empty
+
+
+def empties(width, height):
+    return [[Empty() for _ in range(width)] for _ in range(height)]
+
+
+class Case(unittest.TestCase):
+    def check_refused(self, kind, deed, *given):
+        """Refused with this very class, not with one above or beside it."""
+        with self.assertRaises(kind) as taken:
+            deed(*given)
+        self.assertIs(type(taken.exception), kind)
+
+    def check_fraction(self, told):
+        self.assertIs(type(told), tuple)
+        self.assertEqual([type(number) for number in told], [int, int])
+        self.assertGreaterEqual(told[1], 1)
+        self.assertEqual(gcd(told[0], told[1]), 1)
+
+    def check_own_list(self, ask):
+        """The list is told anew each time: whatever is done to it, the next one is as the first."""
+        told = ask()
+        self.assertIs(type(told), list)
+        kept = list(told)
+        told.clear()
+        told.append("spoiled")
+        self.assertEqual(ask(), kept)
