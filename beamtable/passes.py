@@ -60,3 +60,15 @@ def swallowed_at(table, p):
     if not comes_in(table, p):
         return ZERO
     return table.cell(p[0], p[1]).swallows()
+
+
+def reached_from(table, starts):
+    # A dict of True, in the order in which the passes were come to.
+    found = {}
+    waiting = list(starts)
+    while waiting != []:
+        p = waiting.pop()
+        if p not in found:
+            found[p] = True
+            waiting.extend([following for following, share in goes_on(table, p)])
+    return found

@@ -23,6 +23,19 @@ class Case(unittest.TestCase):
         self.assertGreaterEqual(told[1], 1)
         self.assertEqual(gcd(told[0], told[1]), 1)
 
+    def check_light(self, light):
+        self.assertIs(type(light), list)
+        passes = []
+        for pair in light:
+            self.assertIs(type(pair), tuple)
+            self.assertEqual(len(pair), 2)
+            self.assertIs(type(pair[0]), tuple)
+            self.assertEqual([type(part) for part in pair[0]], [int, int, int])
+            self.check_fraction(pair[1])
+            self.assertGreater(pair[1][0], 0)
+            passes.append(pair[0])
+        self.assertEqual(passes, sorted(set(passes)))
+
     def check_own_list(self, ask):
         """The list is told anew each time: whatever is done to it, the next one is as the first."""
         told = ask()

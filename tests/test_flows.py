@@ -10,7 +10,7 @@ from beamtable.passes import all_passes, outlets
 from beamtable.tables import Table
 from beamtable.texts import read_table
 from tests.cases import Case, empties
-from tests.reckoned import Reckoned, sample_tables, told, told_light
+from tests.reckoned import Reckoned, random_strength, sample_tables, told, told_light
 
 EAST, NORTH, WEST, SOUTH = 0, 1, 2, 3
 WAYS = (EAST, NORTH, WEST, SOUTH)
@@ -29,34 +29,13 @@ def alone(cell):
     return Table(rows)
 
 
-def random_strength(random):
-    if random.random() < 0.2:
-        return told(Fraction(random.randrange(1, LONG), LONG))
-    return told(Fraction(random.randrange(1, 40), random.randrange(1, 40)))
-
-
 def random_light(random, passes):
     """Strengths for some of the passes, as a dict of Fractions."""
     some = random.sample(passes, random.randrange(len(passes) + 1))
     return {p: Fraction(*random_strength(random)) for p in some}
 
 
-class FlowCase(Case):
-    def check_light(self, light):
-        self.assertIs(type(light), list)
-        passes = []
-        for pair in light:
-            self.assertIs(type(pair), tuple)
-            self.assertEqual(len(pair), 2)
-            self.assertIs(type(pair[0]), tuple)
-            self.assertEqual([type(part) for part in pair[0]], [int, int, int])
-            self.check_fraction(pair[1])
-            self.assertGreater(pair[1][0], 0)
-            passes.append(pair[0])
-        self.assertEqual(passes, sorted(set(passes)))
-
-
-class Lamps(FlowCase):
+class Lamps(Case):
     def setUp(self):
         self.table = Table(empties(3, 2))
 
@@ -93,7 +72,7 @@ class Lamps(FlowCase):
 
     def test_three_hundred(self):
         passes = all_passes(self.table)
-        lamps = [(passes[number * 7 % len(passes)], (number + 1, 3)) for number in range(300)]
+        lamps = [(passes[number * 7 % len(passes)], told(Fraction(number + 1, 3))) for number in range(300)]
         asked = {}
         for p, strength in lamps:
             asked[p] = asked.get(p, 0) + Fraction(*strength)
@@ -153,7 +132,7 @@ class Lamps(FlowCase):
         self.assertEqual(none, [])
 
 
-class Steps(FlowCase):
+class Steps(Case):
     def check_step(self, cell, asked, lost):
         """Light of 3/4 into the cell each way: pairs of the way and the strength it leaves with, and what is lost."""
         to = {EAST: (2, 1, EAST), NORTH: (1, 0, NORTH), WEST: (0, 1, WEST), SOUTH: (1, 2, SOUTH)}
@@ -232,7 +211,7 @@ class Steps(FlowCase):
         self.assertEqual(lost_in(table, light), told(Fraction(3, 5) * Fraction(5, 6) + Fraction(1, 7)))
 
 
-class StepsAll(FlowCase):
+class StepsAll(Case):
     def test_each_step_and_what_is_lost(self):
         random = Random(5)
         for table in sample_tables():
@@ -280,7 +259,7 @@ class StepsAll(FlowCase):
         self.check_own_list(lambda: stepped(table, kept))
 
 
-class Sums(FlowCase):
+class Sums(Case):
     def test_of_no_light(self):
         self.assertEqual(sum_of([]), NOTHING)
 
@@ -296,7 +275,7 @@ class Sums(FlowCase):
         self.assertEqual(sum_of([((-1, 0, WEST), (1, 2)), ((0, 0, EAST), (1, 2))]), ALL)
 
 
-class Joined(FlowCase):
+class Joined(Case):
     ONE = [((0, 0, EAST), (1, 2)), ((1, 0, EAST), (1, 3)), ((1, 0, NORTH), (4, 1))]
     OTHER = [((-1, 0, WEST), (7, 1)), ((1, 0, EAST), (1, 6)), ((1, 0, WEST), (2, 9)), ((3, 0, EAST), (1, LONG))]
     BOTH = [
@@ -338,7 +317,7 @@ class Joined(FlowCase):
             self.check_own_list(lambda: joined(*given))
 
 
-class Scaled(FlowCase):
+class Scaled(Case):
     LIGHT = [((-1, 0, WEST), (7, 1)), ((0, 0, EAST), (1, 2)), ((1, 0, EAST), (4, 3))]
 
     def test_so_many_times(self):
